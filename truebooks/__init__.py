@@ -1,0 +1,1 @@
+"""Truebooks: the books of a static analysis, judged for all programs."""
