@@ -51,9 +51,9 @@ class Rooms:
         self.numbers = {}
         self.rooms = []
         self.heads = []
+        self.steps = []
         # Where the steps of 0, -1 and 1 lead from a number or, if it is a head, from
         # all that have it. levels gets the level ways by higher rooms besides.
-        self.steps = []
         self.levels = []
         self.downs = []
         self.ups = []
@@ -87,6 +87,12 @@ class Rooms:
             self.downs[number] = sum([1 << target for change, target in steps if change == -1])
         return self.steps[number]
 
+    def new_levels(self, head, mask):
+        """Let level ways lead from a head to the rooms of a mask; return those that are new."""
+        new = mask & ~self.levels[head]
+        self.levels[head] |= new
+        return new
+
     def members_of(self, head):
         """Return the rooms that a head stands for."""
         return [self.rooms[number] for number in self.members.get(head, [head])]
@@ -103,7 +109,8 @@ class Rooms:
 
     def make_one(self):
         """Make rooms one that lead to each other on one level."""
-        for mask in classes_of(self.levels):
+        classes = classes_of(self.levels)
+        for mask in classes:
             if mask & (mask - 1):
                 self._unite(bits_of(mask), mask)
 
@@ -267,9 +274,8 @@ class Floors:
 
     def _link(self, head, mask):
         """Let level ways by higher floors lead from a head to the rooms of a mask."""
-        new = mask & ~self.rooms.levels[head]
+        new = self.rooms.new_levels(head, mask)
         if new:
-            self.rooms.levels[head] |= new
             for door in list(self.holders[head]):
                 self._meet(door, new)
 

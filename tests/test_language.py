@@ -1,0 +1,149 @@
+"""The package keeps to the plainer rules of ../shared/LANGUAGE.md, as far as a short look tells."""
+
+import ast
+import builtins
+import pathlib
+import unittest
+
+import truebooks
+
+FOLDER = pathlib.Path(truebooks.__file__).parent
+LIBRARY = {"math": {"gcd", "lcm", "isqrt", "comb", "perm", "factorial"},
+           "heapq": {"heappush", "heappop", "heapify", "heapreplace", "heappushpop"},
+           "itertools": {"product", "combinations", "permutations"}}
+BUILTINS = set("""len range enumerate zip min max sum abs sorted reversed int str bool list tuple dict
+set isinstance ord repr any all divmod property ValueError""".split())
+BARRED = (ast.GeneratorExp, ast.Lambda, ast.Global, ast.AsyncFunctionDef, ast.Await, ast.Import,
+          ast.Yield, ast.YieldFrom, ast.Set, ast.SetComp, ast.Match, ast.With, ast.Try, ast.NamedExpr,
+          ast.Div)
+METHODS = set("""append clear copy count endswith extend find get index insert isalnum isalpha isdigit
+items join keys ljust lower lstrip partition pop remove replace reverse rfind rjust split splitlines
+startswith strip update upper values zfill bit_length setdefault""".split())
+INTERFACE = {
+    "lots": ["make_lot", "empty_lot", "whole_lot", "just_lot", "range_lot", "either_lot", "both_lot",
+             "less_lot", "moved_lot", "turned_lot", "rest_lot", "within", "lot_members", "Lot"],
+    "letters": ["check_letter", "check_test", "do_letter", "passes", "lot_of_test", "lot_after",
+                "lot_before"],
+    "lettertext": ["write_letter", "write_test", "read_letter", "read_test"],
+    "lottext": ["write_lot", "read_lot"],
+    "numbermachine": ["check_move", "move_number", "room_of", "number_of", "Machine"],
+    "levels": ["room_arrows", "level_rooms"],
+    "heights": ["rooms_by_height", "row_at", "core_numbers", "Heights"],
+    "reach": ["reach", "number_run", "run_fault", "keeps_fault"],
+    "books": ["Book"],
+    "tables": ["check_word", "at_most", "join_two", "join_all", "deed_word", "test_word", "step_word",
+               "alarms_at", "covers_first", "covers_row", "covers_test", "raised_book", "renamed_book"],
+    "programs": ["rows_count", "procedure_of", "Program"],
+    "places": ["place_count", "row_at_place", "call_places", "arrows_of", "alphabet_of"],
+    "programtext": ["row_text", "read_rows", "write_program", "read_program"],
+    "booktext": ["write_book", "read_book"],
+}
+PARTS = {"Lot": {"__init__", "__eq__", "__contains__", "bare"}, "Machine": {"__init__", "__eq__"},
+         "Heights": {"__init__", "__eq__"}, "Book": {"__init__", "__eq__", "many", "top"},
+         "Program": {"__init__", "__eq__", "main"}}
+
+
+def files():
+    return sorted(FOLDER.glob("*.py"))
+
+
+def trees():
+    return [(path.name, ast.parse(path.read_text())) for path in files()]
+
+
+class LanguageTest(unittest.TestCase):
+    def test_the_folder_holds_nothing_else(self):
+        names = {path.name for path in FOLDER.iterdir()} - {"__pycache__"}
+        self.assertEqual(names, {path.name for path in files()})
+        self.assertLessEqual(len(names), 100)
+
+    def test_sizes_and_characters(self):
+        for path in files():
+            text = path.read_text()
+            lines = text.split("\n")
+            self.assertLessEqual(len(lines), 399, path.name)
+            self.assertLessEqual(max(len(line) for line in lines), 120, path.name)
+            self.assertTrue(all(" " <= character <= "~" or character == "\n" for character in text))
+
+    def test_functions_are_short(self):
+        for name, tree in trees():
+            for node in ast.walk(tree):
+                if isinstance(node, ast.FunctionDef):
+                    self.assertLessEqual(node.end_lineno - node.lineno + 1, 40, (name, node.name))
+
+    def test_imports(self):
+        for name, tree in trees():
+            for node in tree.body:
+                if isinstance(node, ast.ImportFrom):
+                    words = {alias.name for alias in node.names}
+                    self.assertEqual({alias.asname for alias in node.names}, {None})
+                    if not node.module.startswith("truebooks."):
+                        self.assertLessEqual(words, LIBRARY[node.module], name)
+
+    def test_statements_and_expressions(self):
+        for name, tree in trees():
+            for node in ast.walk(tree):
+                self.assertNotIsInstance(node, BARRED, (name, getattr(node, "lineno", 0)))
+                if isinstance(node, ast.Constant):
+                    self.assertNotIsInstance(node.value, (float, complex, bytes))
+                    if isinstance(node.value, str):
+                        self.assertNotIn("%", node.value)
+                if isinstance(node, ast.FunctionDef):
+                    for mark in node.decorator_list:
+                        self.assertEqual(ast.unparse(mark), "property")
+
+    def test_builtins_and_methods(self):
+        for name, tree in trees():
+            bound = {node.id for node in ast.walk(tree)
+                     if isinstance(node, ast.Name) and isinstance(node.ctx, ast.Store)}
+            bound |= {node.arg for node in ast.walk(tree) if isinstance(node, ast.arg)}
+            bound |= {node.name for node in ast.walk(tree)
+                      if isinstance(node, (ast.FunctionDef, ast.ClassDef))}
+            free = {node.name for node in tree.body if isinstance(node, (ast.FunctionDef, ast.ClassDef))}
+            self.assertEqual({word for word in free if hasattr(builtins, word)}, set(), name)
+            called = {node.func.attr for node in ast.walk(tree)
+                      if isinstance(node, ast.Call) and isinstance(node.func, ast.Attribute)}
+            own = {node.name for _, other in trees() for node in ast.walk(other)
+                   if isinstance(node, ast.FunctionDef)}
+            self.assertLessEqual(called, METHODS | own, name)
+            used = {node.id for node in ast.walk(tree) if isinstance(node, ast.Name)
+                    and hasattr(builtins, node.id)}
+            self.assertLessEqual(used, BUILTINS, name)
+            bound = {word for word in bound if not word.startswith("__")}
+            self.assertEqual({word for word in bound if hasattr(builtins, word)}, set(), name)
+
+    def test_no_name_of_an_import_or_class_is_bound_again(self):
+        for name, tree in trees():
+            taken = {alias.name for node in tree.body if isinstance(node, ast.ImportFrom)
+                     for alias in node.names}
+            taken |= {node.name for node in tree.body if isinstance(node, ast.ClassDef)}
+            bound = {node.id for node in ast.walk(tree)
+                     if isinstance(node, ast.Name) and isinstance(node.ctx, ast.Store)}
+            bound |= {node.arg for node in ast.walk(tree) if isinstance(node, ast.arg)}
+            self.assertEqual(taken & bound, set(), name)
+
+    def test_the_interface_is_defined_where_it_is_listed(self):
+        for module, names in INTERFACE.items():
+            tree = ast.parse((FOLDER / f"{module}.py").read_text())
+            defined = {node.name: node for node in tree.body
+                       if isinstance(node, (ast.FunctionDef, ast.ClassDef))}
+            self.assertLessEqual(set(names), set(defined), module)
+            for name in set(names) & set(PARTS):
+                parts = {node.name for node in defined[name].body if isinstance(node, ast.FunctionDef)}
+                self.assertLessEqual(PARTS[name], parts, name)
+
+    def test_no_two_files_import_from_each_other(self):
+        needs = {}
+        for name, tree in trees():
+            needs[name[:-3]] = {node.module.split(".")[1] for node in tree.body
+                                if isinstance(node, ast.ImportFrom)
+                                and node.module.startswith("truebooks.")}
+        done = set()
+        while len(done) < len(needs):
+            ready = {name for name, words in needs.items() if words <= done} - done
+            self.assertTrue(ready, set(needs) - done)
+            done |= ready
+
+
+if __name__ == "__main__":
+    unittest.main()
