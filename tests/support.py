@@ -147,3 +147,12 @@ def rings(lengths, by=1):
         arrows.extend([(first + at, add(by), first + (at + 1) % length) for at in range(length)])
         first += length
     return Machine(first, starts, arrows)
+
+
+def beside(one, other):
+    """Two machines as one: the stations of the other follow those of the one."""
+    first = one.stations
+    starts = [*one.starts, *[(station + first, number) for station, number in other.starts]]
+    arrows = [*one.arrows, *[(origin + first, move, target + first)
+                             for origin, move, target in other.arrows]]
+    return Machine(first + other.stations, starts, arrows)

@@ -39,6 +39,14 @@ class BookTest(unittest.TestCase):
         self.assertNotEqual(parity_book(), parity_parts())
         self.assertNotEqual(parity_book(), parity_book(meanings=(empty_lot(), evens(), evens(),
                                                                  whole_lot())))
+        letters = (("set", 0), ("add", 2), ("turn",), ("mod", 3))
+        self.assertNotEqual(sign_book(), sign_book(letters=letters))
+        self.assertNotEqual(sign_book(), sign_book(tests=(("is", 0), ("below", 2))))
+        self.assertNotEqual(sign_book(), sign_book(deeds=((0, 1, 1, 1),) * 4))
+        flat = {"meanings": (empty_lot(),) * 4, "deeds": ((0, 0, 0, 0),) * 4,
+                "so": ((0, 0, 0, 0),) * 2, "not_so": ((0, 0, 0, 0),) * 2}
+        chain = [[max(a, b) for b in range(4)] for a in range(4)]
+        self.assertNotEqual(sign_book(**flat), sign_book(joins=chain, **flat))
         self.assertNotEqual(sign_book(), sign_book(so=((0, 1, 0, 3), (0, 1, 0, 3))))
         self.assertNotEqual(sign_book(), sign_book(not_so=((0, 0, 2, 3), (0, 0, 2, 3))))
 

@@ -56,6 +56,29 @@ class HeightsTest(unittest.TestCase):
                 following = {room for up in ups for room in level_rooms(machine, up)}
                 self.assertEqual(row_at(heights, height + 1), tuple(sorted(following)))
 
+    def test_row_at(self):
+        rows = [((station, 1, 0),) for station in range(5)]
+        for again in range(5):
+            heights = Heights(rows, again)
+            height = 0
+            for _ in range(40):
+                told = [(height + n, row_at(heights, height + n)) for n in range(5)]
+                for at, row in told:
+                    while at >= 5:
+                        at -= 5 - again
+                    self.assertEqual(row, rows[at])
+                height += 3
+            far = (5 - again) * 10 ** 30
+            self.assertEqual(row_at(heights, far + 4), rows[4])
+
+    def test_jumps_from_rooms_that_are_met_high_alone(self):
+        arrows = [(at, add(1), at + 1) for at in range(5)]
+        arrows.extend([(5, ("deed", ("set", -1)), 6), (5, ("deed", ("mod", 1)), 7)])
+        machine = Machine(8, [(0, 0)], arrows)
+        rows = rooms_by_height(machine).rows
+        self.assertEqual(rows, (((2, 1, 0),), ((3, 1, 0),), ((4, 1, 0),), ((5, 1, 0),), ()))
+        self.assertEqual(core_numbers(machine), ((0,), (1,), (), (), (), (), (-1,), (0,)))
+
     def test_without_starts_and_without_arrows(self):
         for machine in (Machine(3, [], [(0, add(1), 1)]), Machine(3, [(1, 7), (1, -2)], [])):
             self.assertEqual(rooms_by_height(machine), Heights([()], 0))

@@ -95,7 +95,7 @@ class MachineTest(unittest.TestCase):
         self.assertIsNone(self.fault(2, [], [good] * 4000))
         for arrow in ((0, ("stay",)), (0, ("stay",), 2), (2, ("stay",), 0), (-1, ("stay",), 0),
                       (True, ("stay",), 0), (0, ("stay",), False), (0, ("go",), 0), None, "abc",
-                      (0, ("stay",), 0, 0), (0, None, 0), (0, ("so", ("is", 21)), 0)):
+                      (0, ("stay",), 0, 0), (0, ("stay",), -1), (0, None, 0), (0, ("so", ("is", 21)), 0)):
             self.assertEqual(self.fault(2, [], [good, arrow, None]), ("BadMachine", "arrows", 1), arrow)
 
     def test_several_faults_in_order(self):

@@ -5,7 +5,7 @@ import time
 import unittest
 
 from support import (
-    add, error_of, evens, met_couples, odds, random_machine, random_move, rings, two_rings,
+    add, beside, error_of, evens, met_couples, odds, random_machine, random_move, rings, two_rings,
 )
 from truebooks.heights import rooms_by_height
 from truebooks.lots import (
@@ -59,6 +59,12 @@ class ReachTest(unittest.TestCase):
         self.assertEqual(lots, (whole_lot(),))
         self.assertTrue(10 ** 30 in lots[0])
 
+    def test_jumps_from_rooms_that_are_met_high_alone(self):
+        arrows = [(at, add(3), at + 1) for at in range(5)]
+        arrows.extend([(5, ("deed", ("set", -2)), 6), (5, ("deed", ("mod", 4)), 6)])
+        lots = reach(Machine(7, [(0, 0)], arrows))
+        self.assertEqual(lots[5:], (just_lot([15]), just_lot([-2, 3])))
+
     def test_the_errors_and_their_order(self):
         self.assertEqual(error_of(reach, rings([23, 29, 3])), ("TooLong", 2000))
         # 504 rows of a block of 20 are 10,080 numbers; 505 are too many.
@@ -106,6 +112,10 @@ class ReachTest(unittest.TestCase):
             far = Machine(machine.stations, [(0, start)], arrows)
             self.assertEqual(error_of(reach, far), fault, start)
         self.assertEqual(rooms_by_height(far).again, 960)
+        # Where both 10,080 and 20,000 would be passed, 10,080 comes first.
+        both = beside(far, rings([5, 101], 20))
+        self.assertEqual(error_of(reach, both), ("TooLong", 10080))
+        self.assertEqual(error_of(reach, beside(far, rings([7, 8, 9], 20))), ("TooLong", 20000))
 
     def test_machines_of_the_greatest_size(self):
         rng = random.Random(41)
@@ -219,6 +229,13 @@ class KeepsTest(unittest.TestCase):
         self.assertEqual(keeps_fault(machine, (just_lot([9, -8]), just_lot([19]))), ("arrow", 0, -8))
         machine = Machine(2, [], [(0, ("not", ("rest", 4, 0)), 1)])
         self.assertEqual(keeps_fault(machine, (evens(), odds())), ("arrow", 0, -2))
+
+    def test_the_modulus_of_the_move_counts(self):
+        machine = Machine(2, [], [(0, ("so", ("rest", 6, 2)), 1)])
+        lot = make_lot(0, -1, (), 77, [46], [46])
+        self.assertEqual(keeps_fault(machine, (lot, empty_lot())), ("arrow", 0, 200))
+        machine = Machine(2, [], [(0, ("deed", ("mod", 6)), 1)])
+        self.assertEqual(keeps_fault(machine, (lot, just_lot([0, 1, 3, 4, 5]))), ("arrow", 0, 200))
 
     def test_random_lots(self):
         rng = random.Random(43)

@@ -41,30 +41,20 @@ def number_run(machine, station, number):
     """Return a run (start, arrows) that ends with the number at the station, or None."""
     if number not in reach(machine)[station]:
         return None
-    run = None
-    limit = max(machine.rim, abs(number))
-    while run is None:
-        limit *= 2
-        run = _run_within(machine, station, number, limit)
-    return run
-
-
-def _run_within(machine, station, number, limit):
-    """Look for a run whose numbers are from -limit to limit, the nearest numbers first."""
+    # Couples with the nearest numbers are gone on from first. So no couple is gone on from
+    # that is farther off than all that some run to the number meets: the search ends.
     origins = {}
     queue = []
     for index, start in enumerate(machine.starts):
         _come_to(start, (None, index), number, origins, queue)
-    while queue:
+    while (station, number) not in origins:
         _, _, couple = heappop(queue)
-        if couple == (station, number):
-            return _run_to(couple, origins)
         for index in machine.leaving[couple[0]]:
             _, move, target = machine.arrows[index]
             after = move_number(move, couple[1])
-            if after is not None and abs(after) <= limit:
+            if after is not None:
                 _come_to((target, after), (couple, index), number, origins, queue)
-    return None
+    return _run_to((station, number), origins)
 
 
 def _come_to(couple, origin, number, origins, queue):
