@@ -86,8 +86,8 @@ def alphabet_of(program):
     """Return (letters, tests) in the order in which they first occur in a program."""
     letters = {}
     tests = {}
-    for _, _, rows in program.procedures:
-        for row in flat_rows(rows):
+    for procedure in program.procedures:
+        for row in flat_rows(procedure[2]):
             if row[0] == "deed":
                 letters[row[2]] = True
             elif row[0] in ("need", "if", "while"):

@@ -27,7 +27,7 @@ class Program:
         variables_of = _checked_heads(procedures)
         self.procedures = tuple([_checked_procedure(procedure, variables_of)
                                  for procedure in procedures])
-        if sum([rows_count(rows) for _, _, rows in self.procedures]) > MOST_ROWS:
+        if sum([rows_count(procedure[2]) for procedure in self.procedures]) > MOST_ROWS:
             raise BadProgram("", -1, "size")
 
     def __eq__(self, other):

@@ -48,7 +48,8 @@ def number_run(machine, station, number):
     for index, start in enumerate(machine.starts):
         _come_to(start, (None, index), number, origins, queue)
     while (station, number) not in origins:
-        _, _, couple = heappop(queue)
+        nearest = heappop(queue)
+        couple = nearest[2]
         for index in machine.leaving[couple[0]]:
             _, move, target = machine.arrows[index]
             after = move_number(move, couple[1])
