@@ -3,6 +3,7 @@
 import ast
 import builtins
 import pathlib
+import re
 import unittest
 
 import truebooks
@@ -19,6 +20,11 @@ BARRED = (ast.GeneratorExp, ast.Lambda, ast.Global, ast.AsyncFunctionDef, ast.Aw
 METHODS = set("""append clear copy count endswith extend find get index insert isalnum isalpha isdigit
 items join keys ljust lower lstrip partition pop remove replace reverse rfind rjust split splitlines
 startswith strip update upper values zfill bit_length setdefault""".split())
+# L12: names begin with none of the first, and are none of the others, figures behind them aside.
+BARRED_BEGINNINGS = ("_wall", "_pe_", "_dcw_", "_enum_", "_cm_", "_twin_re_", "_lay_", "_law_",
+                     "_stub_", "_sre", "_WallAttr")
+BARRED_NAMES = ("_cold", "_tuplegetter", "_outside", "_record", "_written_out", "_member_names")
+PLAIN_NAME = re.compile("_?[A-Za-z][A-Za-z0-9_]*|_")
 INTERFACE = {
     "lots": ["make_lot", "empty_lot", "whole_lot", "just_lot", "range_lot", "either_lot", "both_lot",
              "less_lot", "moved_lot", "turned_lot", "rest_lot", "within", "lot_members", "Lot"],
@@ -49,6 +55,17 @@ def files():
 
 def trees():
     return [(path.name, ast.parse(path.read_text())) for path in files()]
+
+
+def names_of(tree):
+    """All names that a file binds or uses: variables, functions, attributes, keywords, imports."""
+    names = set()
+    for node in ast.walk(tree):
+        for field in ("id", "name", "attr", "arg", "asname"):
+            word = getattr(node, field, None)
+            if isinstance(word, str) and not isinstance(node, ast.ImportFrom):
+                names.add(word)
+    return names
 
 
 class LanguageTest(unittest.TestCase):
@@ -111,6 +128,14 @@ class LanguageTest(unittest.TestCase):
             self.assertLessEqual(used, BUILTINS, name)
             bound = {word for word in bound if not word.startswith("__")}
             self.assertEqual({word for word in bound if hasattr(builtins, word)}, set(), name)
+
+    def test_names_are_plain(self):
+        for name, tree in trees():
+            for word in names_of(tree):
+                self.assertFalse(word.startswith(BARRED_BEGINNINGS), (name, word))
+                self.assertNotIn(word.rstrip("0123456789_"), BARRED_NAMES, name)
+                if not (word.startswith("__") and word.endswith("__")):
+                    self.assertTrue(PLAIN_NAME.fullmatch(word), (name, word))
 
     def test_no_name_of_an_import_or_class_is_bound_again(self):
         for name, tree in trees():

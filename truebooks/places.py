@@ -38,20 +38,20 @@ def arrows_of(program, name):
     """Return for each place the arrows (act, target) that leave it, or raise NoProcedure."""
     rows = procedure_of(program, name)[2]
     arrows = []
-    _lay_rows(rows, rows_count(rows), arrows)
+    _append_arrows(rows, rows_count(rows), arrows)
     arrows.append(())
     return tuple(arrows)
 
 
-def _lay_rows(rows, behind, arrows):
+def _append_arrows(rows, behind, arrows):
     """Append the arrows of rows whose first place comes next; behind is what follows them."""
     for at, row in enumerate(rows):
         is_last = at == len(rows) - 1
         following = behind if is_last else len(arrows) + rows_count((row,))
-        _lay_row(row, following, arrows)
+        _append_row(row, following, arrows)
 
 
-def _lay_row(row, following, arrows):
+def _append_row(row, following, arrows):
     place = len(arrows)
     blocks = blocks_of(row)
     leads_on = place if row[0] == "while" else following
@@ -62,7 +62,7 @@ def _lay_row(row, following, arrows):
         first += rows_count(block)
     arrows.append(_arrows_at(row, heads, following))
     for block in blocks:
-        _lay_rows(block, leads_on, arrows)
+        _append_arrows(block, leads_on, arrows)
 
 
 def _arrows_at(row, heads, following):
