@@ -47,15 +47,25 @@ def _test_place(book, test):
     return book.tests.index(test)
 
 
+def deed_row(book, letter):
+    """Return the words behind a letter at all words, or raise NoLetter."""
+    return book.deeds[_letter_place(book, letter)]
+
+
+def test_row(book, test, holds):
+    """Return the words behind a test that holds or not at all words, or raise NoTest."""
+    table = book.so if holds else book.not_so
+    return table[_test_place(book, test)]
+
+
 def deed_word(book, letter, word):
     """Return the word behind a letter, or raise NoLetter."""
-    return book.deeds[_letter_place(book, letter)][word]
+    return deed_row(book, letter)[word]
 
 
 def test_word(book, test, holds, word):
     """Return the word behind a test that holds or does not hold, or raise NoTest."""
-    table = book.so if holds else book.not_so
-    return table[_test_place(book, test)][word]
+    return test_row(book, test, holds)[word]
 
 
 def step_word(book, step, word):

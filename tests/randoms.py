@@ -1,0 +1,220 @@
+"""Random books and programs, and plain climbing that shares no code with the package's."""
+
+from truebooks.books import Book
+from truebooks.lots import either_lot, empty_lot, just_lot, make_lot
+from truebooks.programs import Program
+
+LETTERS = [("set", 0), ("add", 1), ("turn",), ("mod", 3), ("add", -2), ("set", 2)]
+TESTS = [("below", 2), ("is", 0), ("rest", 2, 1), ("is", 3)]
+
+
+def union_closed(rng, atoms, many):
+    """Sets closed under unions, the empty one first, at most 12 of them."""
+    sets = [frozenset()]
+    for _ in range(many):
+        fresh = frozenset(atom for atom in range(atoms) if rng.random() < 0.5)
+        closed = set(sets) | {fresh | elder for elder in sets}
+        if len(closed) <= 12:
+            sets = sorted(closed, key=lambda word: (len(word), sorted(word)))
+    if len(sets) == 1:
+        sets.append(frozenset([0]))
+    return sets
+
+
+def rising_row(rng, joins, nones):
+    """A row that rises: the join of what random words at and below each word bring."""
+    many = len(joins)
+    seeds = [0] + [0 if rng.random() < nones else rng.randrange(1, many) for _ in range(1, many)]
+    row = []
+    for word in range(many):
+        joined = 0
+        for below in range(many):
+            if joins[below][word] == word:
+                joined = joins[joined][seeds[below]]
+        row.append(joined)
+    return row
+
+
+def random_book(rng, atoms=3, nones=0.4, letters=3, tests=2):
+    """A book over sets, with tables that rise but need not cover its meanings."""
+    sets = union_closed(rng, atoms, 4)
+    many = len(sets)
+    joins = [[sets.index(one | other) for other in sets] for one in sets]
+    seeds = [rng.choice([empty_lot(), just_lot([rng.randint(-3, 3)]), make_lot(0, -1, (), 2, (0,), (0,))])
+             for _ in sets]
+    meanings = []
+    for word in range(many):
+        lot = empty_lot()
+        for below in range(1, many):
+            if joins[below][word] == word:
+                lot = either_lot(lot, seeds[below])
+        meanings.append(lot)
+    chosen = [("set", 0)] + rng.sample(LETTERS[1:], letters - 1)
+    asked = rng.sample(TESTS, tests)
+    return Book(chosen, asked, joins, meanings,
+                [rising_row(rng, joins, nones / 2) for _ in chosen],
+                [rising_row(rng, joins, nones) for _ in asked],
+                [rising_row(rng, joins, nones) for _ in asked], rng.randrange(1, many))
+
+
+def random_program(rng, book, procedures=3, variables=2, depth=2, most=3, words=None):
+    """A program over the alphabet of a book; words tells the kinds of rows that may stand."""
+    names = ["main", "p", "q", "r", "s"][:procedures]
+    sizes = {name: rng.randint(1, variables) for name in names}
+
+    def block(name, left):
+        return tuple(row(name, left) for _ in range(rng.choice((0, 1, 1, 2, most))))
+
+    def row(name, left):
+        kinds = words or ("deed", "deed", "copy", "need", "if", "either", "while", "call", "call", "stop")
+        kind = rng.choice(kinds)
+        many = sizes[name]
+        v = rng.randrange(many)
+        if kind in ("if", "either", "while") and left == 0:
+            kind = "deed"
+        if kind in ("need", "if", "while") and not book.tests:
+            kind = "deed"
+        if kind == "stop" and rng.random() < 0.7:
+            kind = "copy"
+        if kind == "deed":
+            return ("deed", v, rng.choice(book.letters))
+        if kind == "copy":
+            return ("copy", v, rng.randrange(many))
+        if kind == "need":
+            return ("need", v, rng.choice(book.tests))
+        if kind == "if":
+            return ("if", v, rng.choice(book.tests), block(name, left - 1), block(name, left - 1))
+        if kind == "either":
+            return ("either", block(name, left - 1), block(name, left - 1))
+        if kind == "while":
+            return ("while", v, rng.choice(book.tests), block(name, left - 1))
+        if kind == "stop":
+            return ("stop",)
+        callee = rng.choice(names)
+        args = tuple(rng.randrange(many) for _ in range(rng.randint(0, sizes[callee])))
+        return ("call", callee, args, v)
+
+    return Program([(name, sizes[name], block(name, depth) + (row(name, depth),)) for name in names])
+
+
+def plain_places(rows):
+    """The rows by places, and for each the arrows (side, target), found without the package."""
+    flat = []
+
+    def lay(block, behind):
+        heads = []
+        for row in block:
+            heads.append(len(flat))
+            entry = [row, None, []]
+            flat.append(entry)
+            entry[2] = [lay(part, entry) for part in row[1:]
+                        if isinstance(part, tuple) and (not part or isinstance(part[0], tuple))
+                        and row[0] in ("if", "either", "while") and part is not row[2 if row[0] != "either" else 0]]
+        return heads
+
+    def lead(block, heads, behind):
+        for at, (row, here) in enumerate(zip(block, heads)):
+            following = heads[at + 1] if at + 1 < len(block) else behind
+            inner = here if row[0] == "while" else following
+            blocks = blocks_of(row)
+            starts = []
+            for part, inner_heads in zip(blocks, flat[here][2]):
+                lead(part, inner_heads, inner)
+                starts.append(inner_heads[0] if part else inner)
+            if row[0] == "stop":
+                flat[here][1] = []
+            elif row[0] == "while":
+                flat[here][1] = [starts[0], following]
+            elif row[0] in ("if", "either"):
+                flat[here][1] = starts
+            else:
+                flat[here][1] = [following]
+
+    def blocks_of(row):
+        return {"if": row[3:], "either": row[1:], "while": row[3:]}.get(row[0], ())
+
+    heads = lay(rows, None)
+    lead(rows, heads, len(flat))
+    return [(row, targets) for row, targets, _ in flat]
+
+
+def put(row, v, word):
+    return None if word == 0 else row[:v] + (word,) + row[v + 1:]
+
+
+def plain_moves(book, row, words, result):
+    """The rows of words behind a row's arrows, in order."""
+    kind = row[0]
+    if kind == "deed":
+        return [put(words, row[1], book.deeds[book.letters.index(row[2])][words[row[1]]])]
+    if kind == "copy":
+        return [put(words, row[1], words[row[2]])]
+    if kind == "call":
+        return [put(words, row[3], result)]
+    if kind == "either":
+        return [words, words]
+    if kind == "stop":
+        return []
+    at = book.tests.index(row[2])
+    sides = [put(words, row[1], book.so[at][words[row[1]]]),
+             put(words, row[1], book.not_so[at][words[row[1]]])]
+    return sides[:1] if kind == "need" else sides
+
+
+def join(book, one, other):
+    if one is None or other is None:
+        return other if one is None else one
+    return tuple(book.joins[a][b] for a, b in zip(one, other))
+
+
+def plain_family(book, program, treatment):
+    """The least tables of the nodes asked from the first one, by going over all again and again."""
+    procedures = {name: (variables, plain_places(rows)) for name, variables, rows in program.procedures}
+    main = program.procedures[0][0]
+    start = (book.first,) * procedures[main][0]
+    first = (main, start if treatment == "entry" else ())
+    tables = {}
+
+    def table(node):
+        if node not in tables:
+            tables[node] = [None] * (len(procedures[node[0]][1]) + 1)
+            if treatment == "entry":
+                tables[node][0] = node[1]
+        return tables[node]
+
+    def asked(node, place, row, words):
+        _, callee, sources, _ = row
+        lacking = procedures[callee][0] - len(sources)
+        entry = tuple(words[v] for v in sources) + (book.first,) * lacking
+        if treatment == "entry":
+            return (callee, entry), entry
+        if treatment == "one":
+            return (callee, ()), entry
+        return (callee, (node[1] + ((node[0], place),))[-treatment[1]:]), entry
+
+    table(first)[0] = start
+    changed = True
+    while changed:
+        before = {node: list(rows) for node, rows in tables.items()}
+        for node in list(tables):
+            for place, (row, targets) in enumerate(procedures[node[0]][1]):
+                words = tables[node][place]
+                if words is None:
+                    continue
+                result = 0
+                if row[0] == "call":
+                    other, entry = asked(node, place, row, words)
+                    table(other)[0] = join(book, table(other)[0], entry)
+                    behind = table(other)[-1]
+                    result = behind[0] if behind else 0
+                for target, after in zip(targets, plain_moves(book, row, words, result)):
+                    tables[node][target] = join(book, tables[node][target], after)
+        changed = before != tables
+    found = [first]
+    for node in found:
+        for place, (row, _) in enumerate(procedures[node[0]][1]):
+            if row[0] == "call" and tables[node][place] is not None:
+                other, _ = asked(node, place, row, tables[node][place])
+                if other not in found:
+                    found.append(other)
+    return {node: tuple(tables[node]) for node in sorted(found)}
