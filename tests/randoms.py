@@ -97,45 +97,40 @@ def random_program(rng, book, procedures=3, variables=2, depth=2, most=3, words=
     return Program([(name, sizes[name], block(name, depth) + (row(name, depth),)) for name in names])
 
 
+def blocks_of(row):
+    return {"if": row[3:], "either": row[1:], "while": row[3:]}.get(row[0], ())
+
+
+def size_of(rows):
+    return sum(1 + sum(size_of(block) for block in blocks_of(row)) for row in rows)
+
+
 def plain_places(rows):
-    """The rows by places, and for each the arrows (side, target), found without the package."""
+    """The couples (row, targets of its arrows) by places, found without the package."""
     flat = []
 
-    def lay(block, behind):
-        heads = []
-        for row in block:
-            heads.append(len(flat))
-            entry = [row, None, []]
-            flat.append(entry)
-            entry[2] = [lay(part, entry) for part in row[1:]
-                        if isinstance(part, tuple) and (not part or isinstance(part[0], tuple))
-                        and row[0] in ("if", "either", "while") and part is not row[2 if row[0] != "either" else 0]]
-        return heads
-
-    def lead(block, heads, behind):
-        for at, (row, here) in enumerate(zip(block, heads)):
-            following = heads[at + 1] if at + 1 < len(block) else behind
-            inner = here if row[0] == "while" else following
-            blocks = blocks_of(row)
-            starts = []
-            for part, inner_heads in zip(blocks, flat[here][2]):
-                lead(part, inner_heads, inner)
-                starts.append(inner_heads[0] if part else inner)
+    def walk(block, behind):
+        for at, row in enumerate(block):
+            place = len(flat)
+            following = place + size_of([row]) if at + 1 < len(block) else behind
+            inner = place if row[0] == "while" else following
+            heads = []
+            head = place + 1
+            for part in blocks_of(row):
+                heads.append(head if part else inner)
+                head += size_of(part)
             if row[0] == "stop":
-                flat[here][1] = []
+                heads = []
             elif row[0] == "while":
-                flat[here][1] = [starts[0], following]
-            elif row[0] in ("if", "either"):
-                flat[here][1] = starts
-            else:
-                flat[here][1] = [following]
+                heads = [heads[0], following]
+            elif row[0] not in ("if", "either"):
+                heads = [following]
+            flat.append((row, heads))
+            for part in blocks_of(row):
+                walk(part, inner)
 
-    def blocks_of(row):
-        return {"if": row[3:], "either": row[1:], "while": row[3:]}.get(row[0], ())
-
-    heads = lay(rows, None)
-    lead(rows, heads, len(flat))
-    return [(row, targets) for row, targets, _ in flat]
+    walk(rows, size_of(rows))
+    return flat
 
 
 def put(row, v, word):

@@ -7,6 +7,7 @@ import re
 import unittest
 
 import truebooks
+from truebooks import errors
 
 FOLDER = pathlib.Path(truebooks.__file__).parent
 LIBRARY = {"math": {"gcd", "lcm", "isqrt", "comb", "perm", "factorial"},
@@ -15,7 +16,7 @@ LIBRARY = {"math": {"gcd", "lcm", "isqrt", "comb", "perm", "factorial"},
 BUILTINS = set("""len range enumerate zip min max sum abs sorted reversed int str bool list tuple dict
 set isinstance ord repr any all divmod property ValueError""".split())
 BARRED = (ast.GeneratorExp, ast.Lambda, ast.Global, ast.AsyncFunctionDef, ast.Await, ast.Import,
-          ast.Yield, ast.YieldFrom, ast.Set, ast.SetComp, ast.Match, ast.With, ast.Try, ast.NamedExpr,
+          ast.Yield, ast.YieldFrom, ast.Set, ast.SetComp, ast.Match, ast.With, ast.NamedExpr,
           ast.Div)
 METHODS = set("""append clear copy count endswith extend find get index insert isalnum isalpha isdigit
 items join keys ljust lower lstrip partition pop remove replace reverse rfind rjust split splitlines
@@ -43,10 +44,46 @@ INTERFACE = {
     "places": ["place_count", "row_at_place", "call_places", "arrows_of", "alphabet_of"],
     "programtext": ["row_text", "read_rows", "write_program", "read_program"],
     "booktext": ["write_book", "read_book"],
+    "runs": ["run_program", "run_fault", "all_runs", "open_calls", "Run"],
+    "rows": ["check_alphabet", "join_rows", "row_at_most", "start_row", "entry_row", "row_after"],
+    "climbs": ["Climb"],
+    "rounds": ["closed_table", "closed_fault", "Climbed"],
+    "orders": ["order_of", "climb_by"],
+    "treatments": ["check_treatment", "first_key", "key_of"],
+    "calls": ["answer_program", "table_of", "row_told", "result_of", "joined_row", "asked_nodes",
+              "node_of_calls", "Answer"],
+    "packages": ["called_names", "reached_names", "join_units"],
+    "edits": ["edit_program"],
+    "kept": ["Keeper"],
+    "reasons": ["reasons_of", "find_line", "lines_under"],
+    "tablejudge": ["judge_reasons", "judge_table", "judge_answer"],
+    "unrolled": ["unroll_place", "carried_choices", "Unrolled"],
+    "told": ["told_words", "told_lines", "told_fault", "told_procedures", "told_program",
+             "rows_that_matter"],
+    "beneath": ["word_machine", "beneath_lots"],
+}
+# The parameters that the interface tells for what has defaults or keywords.
+SIGNATURES = {
+    ("runs", "run_program"): "program, choices=(), fuel=200",
+    ("runs", "all_runs"): "program, fuel, most=64",
+    ("rows", "row_after"): "book, act, row, result=0",
+    ("rounds", "closed_table"): "book, program, name, entry, *, results=(), order=None",
+    ("rounds", "closed_fault"): "book, program, name, entry, table, *, results=()",
+    ("orders", "climb_by"): "book, program, name, entry, picks, *, results=()",
+    ("calls", "answer_program"): "book, program, treatment, picks=()",
+    ("treatments", "key_of"): "treatment, key, name, place, callee, words",
+    ("rows", "entry_row"): "book, args, row, variables",
+    ("calls", "node_of_calls"): "book, program, answer, calls",
+    ("unrolled", "unroll_place"): "book, program, node, place",
+    ("tablejudge", "judge_answer"): "book, program, answer, lines",
 }
 PARTS = {"Lot": {"__init__", "__eq__", "__contains__", "bare"}, "Machine": {"__init__", "__eq__"},
          "Heights": {"__init__", "__eq__"}, "Book": {"__init__", "__eq__", "many", "top"},
-         "Program": {"__init__", "__eq__", "main"}}
+         "Program": {"__init__", "__eq__", "main"}, "Run": {"__init__", "__eq__"},
+         "Climb": {"__init__", "pass_on", "enter", "settle", "settled"},
+         "Climbed": {"__init__", "__eq__"}, "Answer": {"__init__", "__eq__", "alarm_places"},
+         "Keeper": {"__init__", "do_edits", "take_back", "set_treatment", "work_out", "made_anew"},
+         "Unrolled": {"__init__", "__eq__"}}
 
 
 def files():
@@ -156,6 +193,27 @@ class LanguageTest(unittest.TestCase):
             for name in set(names) & set(PARTS):
                 parts = {node.name for node in defined[name].body if isinstance(node, ast.FunctionDef)}
                 self.assertLessEqual(PARTS[name], parts, name)
+            for name in names:
+                if (module, name) in SIGNATURES:
+                    self.assertEqual(ast.unparse(defined[name].args), SIGNATURES[(module, name)])
+
+    def test_no_name_is_a_method_and_an_attribute(self):
+        methods = set()
+        attributes = set()
+        for _, tree in trees():
+            for node in ast.walk(tree):
+                if isinstance(node, ast.ClassDef):
+                    methods |= {part.name for part in node.body if isinstance(part, ast.FunctionDef)}
+                if isinstance(node, ast.Attribute) and isinstance(node.ctx, ast.Store):
+                    attributes.add(node.attr)
+        self.assertEqual(methods & attributes, set())
+
+    def test_caught_errors_are_the_package_s_own(self):
+        own = set(vars(errors))
+        for name, tree in trees():
+            for node in ast.walk(tree):
+                if isinstance(node, ast.ExceptHandler):
+                    self.assertIn(ast.unparse(node.type), own, name)
 
     def test_no_two_files_import_from_each_other(self):
         needs = {}

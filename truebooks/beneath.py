@@ -3,7 +3,7 @@
 from truebooks.numbermachine import Machine
 from truebooks.reach import reach
 from truebooks.tables import step_word
-from truebooks.told import steps_of, told_words
+from truebooks.told import book_steps, told_words
 
 
 def word_machine(book):
@@ -11,7 +11,7 @@ def word_machine(book):
     words = told_words(book)
     arrows = []
     for word in (0, *words):
-        for step in steps_of(book):
+        for step in book_steps(book):
             arrows.append((word, step, step_word(book, step, word)))
         for other in words:
             joined = book.joins[word][other]

@@ -53,24 +53,29 @@ class Family(NodeMap):
 
     def told_tables(self):
         """Return the tables of the nodes that are asked from the first one, by nodes ascending."""
-        tables = {work.node: tuple(work.table) for work in self.works}
+        tables = {node: table for node, table in self.kept.items()}
+        for work in self.works:
+            tables[work.node] = tuple(work.table)
         return {node: tables[node] for node in self.reached(tables)}
 
     def line_at(self, work, place):
         """Return the number of the line of reasons for the row at a place; here there are none."""
         return -1
 
+    def write_lines(self, work, place, row, why):
+        """Write lines of reasons for a row that let that of a place climb; here there are none."""
+
     def bring(self, work, place, row, why):
-        """Join a row to that of a place; tell whether it climbed. why is for lines of reasons."""
+        """Join a row to that of a place; why is for lines of reasons."""
         elder = work.result()
         if not lift_row(self.book.joins, work.table, place, row):
-            return False
+            return
+        self.write_lines(work, place, row, why)
         if place < work.flow.end:
             self._wake(work.number, place)
         elif work.result() != elder:
             for number, at in work.callers:
                 self._wake(number, at)
-        return True
 
     def _begun(self, node):
         if node not in self.work_of:

@@ -23,16 +23,13 @@ class Reasoner(Family):
         """Return the number of the line of reasons for the row at a place."""
         return self.present[(work.number, place)]
 
-    def bring(self, work, place, row, why):
-        """Join a row to that of a place, with lines for both; tell whether it climbed."""
-        if not super().bring(work, place, row, why):
-            return False
+    def write_lines(self, work, place, row, why):
+        """Write a line for a row that was brought, and one for its join with the elder row."""
         number = self._line(work.node, place, row, why)
         joined = work.table[place]
         if joined != row:
             number = self._line(work.node, place, joined, ("join", self.line_at(work, place), number))
         self.present[(work.number, place)] = number
-        return True
 
     def _line(self, node, place, row, why):
         """Return the number of the line for a row, which is written if there is none yet."""

@@ -70,7 +70,7 @@ class Walk:
             self.read.append(choice)
         row = self._row()
         if row is None:
-            self._come_back()
+            self._leave()
         elif row[0] == "call":
             self._enter(row)
         else:
@@ -87,7 +87,7 @@ class Walk:
         values = (*[values[source] for source in sources], *[0] * lacking)
         self.state = (depth + 1, callee, 0, values, self.state)
 
-    def _come_back(self):
+    def _leave(self):
         number = self.state[3][0]
         depth, name, place, values, call = self.state[4]
         act, target = self._way(name)[2][place][0]

@@ -9,7 +9,7 @@ from truebooks.tables import step_word
 STOP = (("stop",),)
 
 
-def steps_of(book):
+def book_steps(book):
     """Return the tuple of the steps of a book: its deeds, then both sides of each test."""
     steps = [("deed", letter) for letter in book.letters]
     for test in book.tests:
@@ -27,7 +27,7 @@ def told_lines(book):
     """Return one line (word, why) for each told word; it leans on lines ahead alone."""
     lines = [(book.first, ("first",))]
     words = {book.first: True}
-    steps = steps_of(book)
+    steps = book_steps(book)
     number = 0
     while number < len(lines):
         word = lines[number][0]
@@ -83,7 +83,7 @@ def _is_step(book, step):
     # True equals 1, but a letter or a test that tells it is none.
     if not fits_letter(step[1]) and not fits_test(step[1]):
         return False
-    return step in steps_of(book)
+    return step in book_steps(book)
 
 
 def bar(variable, test, holds):

@@ -98,7 +98,7 @@ def _pieces_along(program, writer, way, depth):
             sources = flow.calls[place][1]
     if scope.base > 0:
         for variable in range(writer.flows[scope.name].variables):
-            pieces.append(writer.plain(("copy", variable, scope.base + variable)))
+            pieces.append(writer.single(("copy", variable, scope.base + variable)))
     return pieces
 
 

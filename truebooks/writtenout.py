@@ -29,7 +29,7 @@ class Writer:
         if self.variables + (1 if self.needs_fresh else 0) > MOST_VARIABLES:
             raise TooLarge(MOST_VARIABLES)
 
-    def plain(self, row, mark=None):
+    def single(self, row, mark=None):
         """Return the piece of a row without blocks."""
         self._count(1)
         return (row, [mark])
@@ -42,7 +42,7 @@ class Writer:
         self.take_variables(inner.base + many)
         origins = [scope.base + source for source in sources]
         origins.extend([FRESH] * (many - len(sources)))
-        return [self.plain(("copy", inner.base + at, origin)) for at, origin in enumerate(origins)]
+        return [self.single(("copy", inner.base + at, origin)) for at, origin in enumerate(origins)]
 
     def ahead(self, scope, rows, place, target, words):
         """Return the pieces of what is ahead of a target, and the words there.
@@ -91,7 +91,7 @@ class Writer:
             first += rows_count(blocks[side])
             side += 1
         if row[0] == "either":
-            pieces = [self.plain(("copy", scope.base, scope.base), side)]
+            pieces = [self.single(("copy", scope.base, scope.base), side)]
         else:
             pieces = []
             if row[0] == "while":
@@ -110,7 +110,7 @@ class Writer:
         pieces = []
         for row in block:
             if words is None:
-                pieces.append(self.plain(("stop",)))
+                pieces.append(self.single(("stop",)))
                 return pieces, None
             more, words = self._row(scope, row, place, words, nest)
             pieces.extend(more)
@@ -127,7 +127,7 @@ class Writer:
             pieces, words = self._turns(scope, row, place, words, nest)
             pieces.append(self._bar(scope, row, False, nest))
             return pieces, self._led(scope, place, words, 0)[1]
-        piece = self.plain(moved(row, scope.base))
+        piece = self.single(moved(row, scope.base))
         return [piece], self.depths.row_behind(scope, row, place, words)
 
     def _fork(self, scope, row, place, words, nest):
@@ -163,7 +163,7 @@ class Writer:
         callee, key = self.depths.asked(scope.name, place, words)
         word = self.depths.word_back(callee, key, scope.depth)
         if word == 0:
-            return [self.plain(("stop",))], None
+            return [self.single(("stop",))], None
         depth = 1
         while self.depths.word_back(callee, key, depth) != word:
             depth += 1
@@ -171,7 +171,7 @@ class Writer:
         pieces = self.hand_over(scope, sources, inner)
         body, _ = self._block(inner, self.flows[callee].rows, 0, key, nest)
         pieces.extend(body)
-        pieces.append(self.plain(("copy", scope.base + variable, inner.base)))
+        pieces.append(self.single(("copy", scope.base + variable, inner.base)))
         return pieces, self._led(scope, place, words, word)[0]
 
 
