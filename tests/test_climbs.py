@@ -34,7 +34,7 @@ def plain_table(book, program, name, entry, results):
 
 
 def counted(book, program, name, entry, results, places):
-    """(table, climbs, passes) as a list of places is passed on; None stands for the end of a round."""
+    """(table, climbs) when a list of places is passed on, one after another."""
     rows = plain_places(dict((n, rows) for n, _, rows in program.procedures)[name])
     table = [entry] + [None] * len(rows)
     climbs = 0
@@ -135,7 +135,7 @@ class ClosedTableTest(unittest.TestCase):
                     _, elder = counted(book, program, name, entry, results, used * (rounds - 1))
                     self.assertEqual(elder, climbs)
                     _, elder = counted(book, program, name, entry, results, used * (rounds - 2))
-                    self.assertTrue(elder < climbs or rounds == 1)
+                    self.assertLess(elder, climbs)
 
     def test_none_below_it_is_closed(self):
         for rng, book, program, name, end, entry, results in cases(64, 60):
