@@ -315,6 +315,7 @@ class ClimbTest(unittest.TestCase):
     def test_results_that_come_later(self):
         climb = Climb(parity_book(), FORK, "m", (1,))
         self.assertEqual(climb.settle(), 4)
+        self.assertIs(climb.pass_on(3), False)
         self.assertIsNone(climb.table[-1])
         self.assertIs(climb.settled([0, 0, 0, 1, 0]), False)
         self.assertIs(climb.pass_on(3, 1), True)

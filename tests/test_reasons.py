@@ -145,7 +145,11 @@ class JudgeReasonsTest(unittest.TestCase):
                           (("main",), 0, (1,), ("start",)), (MAIN, 3, (1,), ("start",)),
                           (MAIN, -1, (1,), ("start",)), (MAIN, "0", (1,), ("start",)), (MAIN, 0, (), ("start",)),
                           (MAIN, 0, (1, 1), ("start",)), (MAIN, 0, (0,), ("start",)), (MAIN, 0, (4,), ("start",)),
-                          (MAIN, 0, 1, ("start",)), (MAIN, 0, ("1",), ("start",)), ((1, (1,)), 0, (1,), ("start",)))
+                          (MAIN, 0, 1, ("start",)), (MAIN, 0, ("1",), ("start",)), ((1, (1,)), 0, (1,), ("start",)),
+                          (MAIN, False, (1,), ("start",)), (MAIN, 0, (True,), ("start",)),
+                          (((), (1,)), 0, (1,), ("start",)), ((*MAIN, 0), 0, (1,), ("start",)))
+        self.assert_wrong(1, (MAIN, True, (1,), ("arrow", 0, 0)), (MAIN, 1, (1,), ("arrow", False, 0)),
+                          (MAIN, 1, (1,), ("arrow", 0, False)))
 
     def test_numbers_of_lines(self):
         self.assert_wrong(1, (MAIN, 1, (1,), ("arrow", 1, 0)), (MAIN, 1, (1,), ("arrow", -1, 0)),

@@ -109,7 +109,8 @@ class LinesTest(unittest.TestCase):
             (2, ("step", 0, ("deed", ("add", 1)), 0)), (2, ("step", 0, ("so", ("add", 1)))),
             (2, ("step", 0, ("so", ("is", 5)))), (2, ("step", 0, ("join", 2))), (2, ("step", 0, ("stay",))),
             (2, ("step", 0, None)), (2, ("step", 0, ("deed", ("is", 0)))), (2, ("join", 0, 0)),
-            (2, ("join", 0, 1)), (2, ("join", -1, 0)), (2, ("join", 0)), (2, ("begin",)), (2, "first"),
+            (2, ("join", 0, 1)), (2, ("join", -1, 0)), (2, ("join", 0)), (2, ("begin",)),
+            (2, ("begin", 0, ("deed", ("add", 1)))), (2, (("step",), 0, ("deed", ("add", 1)))), (2, "first"),
             (2, (0, 0, 0)),
         )
         for line in wrong:

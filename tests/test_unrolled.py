@@ -315,6 +315,12 @@ class LargeTest(unittest.TestCase):
             program = Program([("m", 1, rows), ("p", 1, (ADD,) * many)])
             self.assertEqual(self.fault(program), ("TooLarge", 3000) if large else None)
             self.assertIsNone(self.fault(program, 1))
+        # Rows with blocks count like others, a bar is two rows and a turn one more.
+        fork = ("if", 0, NINE, (ADD,), (("either", (), ()),))
+        for many, large in ((2987, False), (2988, True)):
+            program = Program([("m", 1, (("call", "p", (0,), 0), ADD)),
+                               ("p", 1, (("while", 0, NINE, (fork, fork)),) + (ADD,) * many)])
+            self.assertEqual(self.fault(program, 1), ("TooLarge", 3000) if large else None)
         # Turns: each of ten is written with the whole block.
         program = Program([("m", 1, (("while", 0, NINE, (ADD,) + (("copy", 0, 0),) * 296),))])
         self.assertEqual(self.fault(program, book=climbing_book(12)), ("TooLarge", 3000))
@@ -377,6 +383,13 @@ class LargeTest(unittest.TestCase):
         self.assertIsNone(self.fault(program))
         program = Program([("m", 1, nested((("call", "p", (0,), 0),), 10)), ("p", 1, nested((ADD,), 11))])
         self.assertEqual(self.fault(program), ("TooLarge", 20))
+        # Loops in loops, and the blocks of a loop at which or in which the place is.
+        both = (("while", 0, NINE, loop),)
+        self.assertIsNone(self.fault(Program([("m", 1, nested(both, 17))])))
+        self.assertEqual(self.fault(Program([("m", 1, nested(both, 18))])), ("TooLarge", 20))
+        deep = Program([("m", 1, (("while", 0, NINE, nested((ADD,), 19)),))])
+        for place in (0, 1, 20, 21):
+            self.assertIsNone(self.fault(deep, place))
         # The place inside all blocks has no blocks ahead.
         self.assertIsNone(self.fault(Program([("m", 1, nested(loop, 19))]), 19))
 

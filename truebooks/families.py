@@ -66,7 +66,7 @@ class Family(NodeMap):
         """Write lines of reasons for a row that let that of a place climb; here there are none."""
 
     def bring(self, work, place, row, why):
-        """Join a row to that of a place; why is for lines of reasons."""
+        """Join a row or None to that of a place; why is for lines of reasons."""
         elder = work.result()
         if not lift_row(self.book.joins, work.table, place, row):
             return
@@ -110,8 +110,7 @@ class Family(NodeMap):
         line = self.line_at(work, place)
         brought = work.flow.brought(place, work.table[place], 0)
         for arrow, (target, row) in enumerate(brought):
-            if row is not None:
-                self.bring(work, target, row, ("arrow", line, arrow))
+            self.bring(work, target, row, ("arrow", line, arrow))
 
     def _pass_call(self, work, place):
         row = work.table[place]

@@ -14,8 +14,6 @@ class Reasoner(Family):
     def __init__(self, book, program, treatment):
         Family.__init__(self, book, program, treatment, {})
         self.lines = []
-        # The numbers of the lines by (node, place, row).
-        self.numbers_told = {}
         # The numbers of the lines for the present rows, by (number of the work, place).
         self.present = {}
 
@@ -25,19 +23,13 @@ class Reasoner(Family):
 
     def write_lines(self, work, place, row, why):
         """Write a line for a row that was brought, and one for its join with the elder row."""
-        number = self._line(work.node, place, row, why)
+        # All elder lines for the place are at most its elder row, so these rows are new ones.
+        self.lines.append((work.node, place, row, why))
         joined = work.table[place]
         if joined != row:
-            number = self._line(work.node, place, joined, ("join", self.line_at(work, place), number))
-        self.present[(work.number, place)] = number
-
-    def _line(self, node, place, row, why):
-        """Return the number of the line for a row, which is written if there is none yet."""
-        told = (node, place, row)
-        if told not in self.numbers_told:
-            self.numbers_told[told] = len(self.lines)
-            self.lines.append((node, place, row, why))
-        return self.numbers_told[told]
+            both = ("join", self.line_at(work, place), len(self.lines) - 1)
+            self.lines.append((work.node, place, joined, both))
+        self.present[(work.number, place)] = len(self.lines) - 1
 
 
 def reasons_of(book, program, treatment):

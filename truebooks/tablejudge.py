@@ -16,9 +16,7 @@ class Judge(NodeMap):
         if not isinstance(line, tuple) or len(line) != 4 or not self._is_there(line):
             return False
         why = line[3]
-        if not isinstance(why, tuple) or not why or not isinstance(why[0], str):
-            return False
-        if why[0] not in LEANS:
+        if not isinstance(why, tuple) or not why or why[0] not in LEANS:
             return False
         leans = LEANS[why[0]]
         if len(why) != (3 if why[0] == "arrow" else 1 + leans):
@@ -31,9 +29,7 @@ class Judge(NodeMap):
     def _is_there(self, line):
         """Tell whether the program and the book have the node's procedure, the place and the row."""
         node, place, row, _ = line
-        if not isinstance(node, tuple) or len(node) != 2 or not isinstance(node[0], str):
-            return False
-        if node[0] not in self.flows:
+        if not isinstance(node, tuple) or len(node) != 2 or node[0] not in self.flows:
             return False
         flow = self.flows[node[0]]
         if not is_whole_from(place, 0, flow.end):

@@ -62,7 +62,7 @@ def _is_right(book, words, line):
     word, why = line
     if not is_whole_from(word, 1, book.many - 1) or word in words:
         return False
-    if not isinstance(why, tuple) or not why:
+    if not isinstance(why, tuple):
         return False
     last = len(words) - 1
     if why == ("first",):
@@ -78,7 +78,7 @@ def _is_right(book, words, line):
 
 def _is_step(book, step):
     """Tell whether a thing is one of the steps of a book."""
-    if not isinstance(step, tuple) or len(step) != 2 or not isinstance(step[1], tuple):
+    if not isinstance(step, tuple) or len(step) != 2:
         return False
     # True equals 1, but a letter or a test that tells it is none.
     if not fits_letter(step[1]) and not fits_test(step[1]):

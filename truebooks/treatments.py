@@ -10,7 +10,7 @@ MOST_CALLERS = 3
 
 def check_treatment(treatment):
     """Return the treatment, a list as a tuple, or raise BadTreatment."""
-    if isinstance(treatment, str) and treatment in ("entry", "one"):
+    if treatment in ("entry", "one"):
         return treatment
     if not is_sequence_of(treatment, 2) or treatment[0] != "callers":
         raise BadTreatment()
