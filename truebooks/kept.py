@@ -18,9 +18,10 @@ class Keeper:
         self.program = program
         self.treatment = check_treatment(treatment)
         self._elder = []
-        # Program and answer of the last work_out; both are None ahead of the first one.
-        self._worked = None
-        self._answer = None
+        # What the last work_out had: program, treatment, and tables by nodes.
+        self._last_program = None
+        self._last_treatment = None
+        self._last_tables = {}
         self._made_anew = ()
 
     @property
@@ -51,28 +52,27 @@ class Keeper:
         kept = self._kept_tables()
         answer = answer_with(self.book, self.program, self.treatment, picks, kept)
         self._made_anew = tuple([node for node in answer.nodes if node not in kept])
-        self._worked = self.program
-        self._answer = answer
+        self._last_program = self.program
+        self._last_treatment = self.treatment
+        self._last_tables = {node: table for node, table in zip(answer.nodes, answer.tables)}
         return answer
 
     def _kept_tables(self):
         """Return the tables of the last answer that are right for the present program too."""
-        elder = self._answer
-        if elder is None or elder.treatment != self.treatment:
+        if self._last_treatment != self.treatment:
             return {}
-        clean = clean_names(self._worked, self.program)
-        if self.treatment == "entry":
-            return {node: table for node, table in zip(elder.nodes, elder.tables)
-                    if node[0] in clean}
-        if self.program.main != self._worked.main or self.program.main not in clean:
+        clean = clean_names(self._last_program, self.program)
+        main = self.program.main
+        if self.treatment != "entry" and (main != self._last_program.main or main not in clean):
             return {}
-        return {node: table for node, table in zip(elder.nodes, elder.tables)}
+        # By the other treatments main reaches every node, so all of them are clean.
+        return {node: table for node, table in self._last_tables.items() if node[0] in clean}
 
 
 def clean_names(elder, program):
     """Return a dict of the names all of whose reached procedures the elder program has too."""
-    callers = {procedure[0]: [] for procedure in program.procedures}
-    for name in callers:
+    callers = {name: [] for name, _, _ in program.procedures}
+    for name, _, _ in program.procedures:
         for callee in called_names(program, name):
             callers[callee].append(name)
     unclean = {procedure[0]: True for procedure in program.procedures

@@ -49,7 +49,7 @@ def entry_row(book, args, row, variables):
     if row is None:
         return None
     lacking = variables - len(args)
-    return (*[row[source] for source in args], *start_row(book, lacking))
+    return tuple([row[source] for source in args]) + start_row(book, lacking)
 
 
 def row_after(book, act, row, result=0):

@@ -84,7 +84,7 @@ class Walk:
         depth, _, _, values, _ = self.state
         _, callee, sources, _ = row
         lacking = self._way(callee)[0] - len(sources)
-        values = (*[values[source] for source in sources], *[0] * lacking)
+        values = tuple([values[source] for source in sources]) + (0,) * lacking
         self.state = (depth + 1, callee, 0, values, self.state)
 
     def _leave(self):
@@ -95,8 +95,8 @@ class Walk:
 
     def take_back(self, steps, read, state):
         """Go back to a state that was there behind so many steps and choices read."""
-        del self.steps[steps:]
-        del self.read[read:]
+        self.steps = self.steps[:steps]
+        self.read = self.read[:read]
         self.state = state
 
     def run(self, choices):
