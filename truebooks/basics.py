@@ -55,6 +55,11 @@ def text_lines(text):
     return lines
 
 
+def text_of_lines(lines):
+    """Return the text of lines, each with its line feed."""
+    return "".join([line + "\n" for line in lines])
+
+
 def bits_of(mask):
     """Return the ascending places of the bits of a mask."""
     places = []

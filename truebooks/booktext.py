@@ -1,6 +1,6 @@
 """Books as texts."""
 
-from truebooks.basics import plain_numbers, text_lines
+from truebooks.basics import plain_numbers, text_lines, text_of_lines
 from truebooks.books import MOST_WORDS, Book
 from truebooks.errors import BadText
 from truebooks.lettertext import letter_of_words, test_of_words, write_letter, write_test
@@ -21,7 +21,7 @@ def write_book(book):
     for so, not_so in zip(book.so, book.not_so):
         lines.append(_row_line("so", so))
         lines.append(_row_line("not", not_so))
-    return "".join([line + "\n" for line in lines])
+    return text_of_lines(lines)
 
 
 def _row_line(word, row):

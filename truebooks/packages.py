@@ -26,6 +26,13 @@ def reached_names(program, name):
     return tuple(sorted(reached))
 
 
+def reached_program(procedures):
+    """Return the program of those procedures to which calls lead from the first one."""
+    program = Program(procedures)
+    names = reached_names(program, program.main)
+    return Program([procedure for procedure in procedures if procedure[0] in names])
+
+
 def is_unit(thing):
     """Tell whether a thing is a list or tuple of procedures, their variables and rows aside."""
     return is_sequence(thing) and all([_has_head(item) for item in thing])

@@ -1,6 +1,6 @@
 """Programs and rows as texts."""
 
-from truebooks.basics import plain_number, plain_numbers, text_lines
+from truebooks.basics import plain_number, plain_numbers, text_lines, text_of_lines
 from truebooks.errors import BadText
 from truebooks.lettertext import letter_of_words, test_of_words, write_letter, write_test
 from truebooks.programs import Program, blocks_of
@@ -12,7 +12,7 @@ BLOCKS = {"if": 2, "either": 2, "while": 1}
 
 def row_text(row):
     """Return the lines of a good row, each with its line feed."""
-    return _text_of_lines(_lines_of_row(row))
+    return text_of_lines(lines_of_row(row))
 
 
 def write_program(program):
@@ -21,22 +21,19 @@ def write_program(program):
     for name, variables, rows in program.procedures:
         lines.append(f"procedure {name} {variables}")
         for row in rows:
-            lines.extend(_lines_of_row(row))
-    return _text_of_lines(lines)
+            lines.extend(lines_of_row(row))
+    return text_of_lines(lines)
 
 
-def _text_of_lines(lines):
-    return "".join([line + "\n" for line in lines])
-
-
-def _lines_of_row(row):
+def lines_of_row(row):
+    """Return the list of the lines of a good row."""
     lines = [_head_line(row)]
     blocks = blocks_of(row)
     for at, block in enumerate(blocks):
         if at == 1:
             lines.append(BETWEEN[row[0]])
         for inner in block:
-            lines.extend(_lines_of_row(inner))
+            lines.extend(lines_of_row(inner))
     if blocks:
         lines.append("end")
     return lines
@@ -63,7 +60,7 @@ def read_program(text):
     procedures = []
     reader = RowReader()
     for at, line in enumerate(lines):
-        head = _procedure_of_words(line.split(" "))
+        head = procedure_of_words(line.split(" "))
         if head is None:
             if not reader.take(line, at + 1) or not procedures:
                 raise BadText(at + 1, "order")
@@ -96,7 +93,7 @@ def _checked_lines(text):
     return lines
 
 
-def _procedure_of_words(words):
+def procedure_of_words(words):
     """Return (name, variables) of a procedure line, or None."""
     if len(words) != 3 or words[0] != "procedure" or words[1] == "":
         return None

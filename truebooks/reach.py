@@ -55,7 +55,7 @@ def number_run(machine, station, number):
             after = move_number(move, couple[1])
             if after is not None:
                 _come_to((target, after), (couple, index), number, origins, queue)
-    return _run_to((station, number), origins)
+    return run_to((station, number), origins)
 
 
 def _come_to(couple, origin, number, origins, queue):
@@ -65,13 +65,51 @@ def _come_to(couple, origin, number, origins, queue):
         origins[couple] = origin
 
 
-def _run_to(couple, origins):
+def run_to(couple, origins):
+    """Return the run (start, arrows) that led to a couple.
+
+    Origins has by couples (elder couple, arrow), or (None, start) for what a run begins at.
+    """
     arrows = []
     before, index = origins[couple]
     while before is not None:
         arrows.append(index)
         before, index = origins[before]
     return (index, tuple(arrows[::-1]))
+
+
+def shortest_run(machine, is_wanted, most):
+    """Return a run with the fewest arrows to a wanted couple, None if it needs more than most.
+
+    is_wanted tells of a station and a number whether that couple is wanted.
+    """
+    origins = {}
+    fresh = []
+    for index, start in enumerate(machine.starts):
+        if start not in origins:
+            origins[start] = (None, index)
+            fresh.append(start)
+    for length in range(most + 1):
+        for station, number in fresh:
+            if is_wanted(station, number):
+                return run_to((station, number), origins)
+        if length < most:
+            fresh = _led_on(machine, fresh, origins)
+    return None
+
+
+def _led_on(machine, couples, origins):
+    """Return the list of the couples that one arrow more leads to and that have no origin yet."""
+    fresh = []
+    for couple in couples:
+        station, number = couple
+        for index in machine.leaving[station]:
+            _, move, target = machine.arrows[index]
+            after = move_number(move, number)
+            if after is not None and (target, after) not in origins:
+                origins[(target, after)] = (couple, index)
+                fresh.append((target, after))
+    return fresh
 
 
 def run_fault(machine, station, number, run):
@@ -116,13 +154,30 @@ def keeps_fault(machine, lots):
 
 def _led_out(move, lot, target):
     """Return the least number of a lot by size that the move leads out of target, or None."""
+    return least_by_size(_flags_led_out(move, lot, target))
+
+
+def least_made_outside(move, lot, target):
+    """Return the least number by size that the move makes of a lot and target has not, or None."""
+    flags = _flags_led_out(move, lot, target)
+    middle = len(flags) // 2
+    made = [move_number(move, at - middle) for at, told in enumerate(flags) if told]
+    return min(made, key=_size_of, default=None)
+
+
+def _size_of(number):
+    """Return what orders numbers by size."""
+    return (abs(number), number)
+
+
+def _flags_led_out(move, lot, target):
+    """Return for numbers round zero whether they are in the lot and led out of target."""
     modulus = lcm(lot.modulus, target.modulus, _modulus_of(move))
     # Farther out than this all comes again with the common modulus.
     edge = max([abs(end) for end in (lot.low, lot.high, target.low, target.high)]) + MOST + 1
     edge += modulus
     kept = _kept_flags(move, target, edge)
-    flags = lot_flags(lot, -edge, edge)
-    return least_by_size([told and not kept[at] for at, told in enumerate(flags)])
+    return [told and not kept[at] for at, told in enumerate(lot_flags(lot, -edge, edge))]
 
 
 def _modulus_of(move):

@@ -3,19 +3,25 @@
 from truebooks.basics import is_whole_from
 from truebooks.errors import NotTold
 from truebooks.letters import fits_letter, fits_test
+from truebooks.packages import reached_program
 from truebooks.programs import Program
 from truebooks.tables import step_word
 
 STOP = (("stop",),)
 
 
+def tables_of_steps(book):
+    """Return the list of couples (step, row of the words behind it), in the order of the book."""
+    tables = [(("deed", letter), row) for letter, row in zip(book.letters, book.deeds)]
+    for test, so, not_so in zip(book.tests, book.so, book.not_so):
+        tables.append((("so", test), so))
+        tables.append((("not", test), not_so))
+    return tables
+
+
 def book_steps(book):
     """Return the tuple of the steps of a book: its deeds, then both sides of each test."""
-    steps = [("deed", letter) for letter in book.letters]
-    for test in book.tests:
-        steps.append(("so", test))
-        steps.append(("not", test))
-    return tuple(steps)
+    return tuple([step for step, _ in tables_of_steps(book)])
 
 
 def told_words(book):
@@ -91,6 +97,14 @@ def bar(variable, test, holds):
     return ("if", variable, test, (), STOP) if holds else ("if", variable, test, STOP, ())
 
 
+def row_of_step(step, variable):
+    """Return the row that does a step on a variable: a deed, or the bar for a test's side."""
+    kind, item = step
+    if kind == "deed":
+        return ("deed", variable, item)
+    return bar(variable, item, kind == "so")
+
+
 def told_procedures(book):
     """Return one procedure for each told word, by words ascending, that has the word at END."""
     lines = told_lines(book)
@@ -102,28 +116,31 @@ def _name_of(word):
     return f"t{word}"
 
 
-def _call_of(word):
-    return ("call", _name_of(word), (), 0)
+def call_of_told(word, variable=0):
+    """Return the row that brings a told word into a variable."""
+    return ("call", _name_of(word), (), variable)
+
+
+def program_with_told(book, variables, rows, helpers=()):
+    """Return the program of main, with what its rows lead to of helpers and told procedures."""
+    return reached_program([("main", variables, rows), *helpers, *told_procedures(book)])
 
 
 def _rows_of(lines, why):
     """Return rows that make a word from calls of the procedures of elder words."""
     if why[0] == "first":
         return ()
-    elder = _call_of(lines[why[1]][0])
+    elder = call_of_told(lines[why[1]][0])
     if why[0] == "join":
-        return (("either", (elder,), (_call_of(lines[why[2]][0]),)),)
-    kind, item = why[2]
-    if kind == "deed":
-        return (elder, ("deed", 0, item))
-    return (elder, bar(0, item, kind == "so"))
+        return (("either", (elder,), (call_of_told(lines[why[2]][0]),)),)
+    return (elder, row_of_step(why[2], 0))
 
 
 def told_program(book, word):
     """Return a program that tells a word at END of main, or raise NotTold."""
     if not is_whole_from(word, 1, book.many - 1) or word not in told_words(book):
         raise NotTold(word)
-    return Program([("main", 1, (_call_of(word),)), *told_procedures(book)])
+    return Program([("main", 1, (call_of_told(word),)), *told_procedures(book)])
 
 
 def rows_that_matter(book):
