@@ -1,8 +1,11 @@
 """Random books and programs, and plain climbing that shares no code with the package's."""
 
+from truebooks.beneath import beneath_lots
 from truebooks.books import Book
+from truebooks.errors import BookError
 from truebooks.lots import either_lot, empty_lot, just_lot, make_lot
 from truebooks.programs import Program
+from truebooks.told import told_words
 
 LETTERS = [("set", 0), ("add", 1), ("turn",), ("mod", 3), ("add", -2), ("set", 2)]
 TESTS = [("below", 2), ("is", 0), ("rest", 2, 1), ("is", 3)]
@@ -213,3 +216,64 @@ def plain_family(book, program, treatment):
                 if other not in found:
                     found.append(other)
     return {node: tuple(tables[node]) for node in sorted(found)}
+
+
+def told_meanings(book):
+    """The least meanings with which a book never lies, or None where no meanings will do."""
+    lots = beneath_lots(book)
+    if not lots[0].bare:
+        return None
+    meanings = []
+    for word in range(book.many):
+        meaning = empty_lot()
+        for below in told_words(book):
+            if book.joins[below][word] == word:
+                meaning = either_lot(meaning, lots[below])
+        meanings.append(meaning)
+    return meanings
+
+
+def remade(book, **changes):
+    """The book with some of its parts changed."""
+    parts = {name: getattr(book, name) for name in
+             ("letters", "tests", "joins", "meanings", "deeds", "so", "not_so", "first")}
+    parts.update(changes)
+    return Book(**parts)
+
+
+def sound_book(rng, **more):
+    """A random book that never lies."""
+    while True:
+        book = random_book(rng, **more)
+        meanings = told_meanings(book)
+        if meanings is not None:
+            try:
+                return remade(book, meanings=meanings)
+            except BookError:
+                pass
+
+
+def plain_program(rng, book, depth=2, most=3):
+    """A random program of one procedure with one variable and no call."""
+    words = ("deed", "deed", "deed", "copy", "need", "if", "either", "either", "while", "stop")
+    return random_program(rng, book, procedures=1, variables=1, depth=depth, most=most, words=words)
+
+
+def kin(rng, book, changes=2):
+    """A book over the same alphabet with the same words and some other rows."""
+    tables = [[list(row) for row in table] for table in (book.deeds, book.so, book.not_so)]
+    for _ in range(changes):
+        table = rng.choice([table for table in tables if table])
+        table[rng.randrange(len(table))] = rising_row(rng, book.joins, 0.3)
+    return remade(book, deeds=tables[0], so=tables[1], not_so=tables[2])
+
+
+def two_books(rng):
+    """Two books over one alphabet, near to each other or not."""
+    one = random_book(rng, nones=rng.choice((0, 0.2, 0.5)), letters=rng.randint(1, 4))
+    if rng.random() < 0.6:
+        return one, kin(rng, one, rng.randint(0, 3))
+    other = random_book(rng, nones=0.3)
+    deeds = [rising_row(rng, other.joins, 0.1) for _ in one.letters]
+    tables = [[rising_row(rng, other.joins, 0.4) for _ in one.tests] for _ in range(2)]
+    return one, remade(other, letters=one.letters, tests=one.tests, deeds=deeds, so=tables[0], not_so=tables[1])

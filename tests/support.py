@@ -3,10 +3,14 @@
 import random
 
 from truebooks.books import Book
+from truebooks.calls import answer_program, node_of_calls, row_told
 from truebooks.errors import BookError
 from truebooks.lots import empty_lot, just_lot, make_lot, range_lot, whole_lot
 from truebooks.numbermachine import Machine, move_number
+from truebooks.runs import open_calls
+from truebooks.treatments import first_key
 
+TREATMENTS = ("entry", ("callers", 3), ("callers", 2), ("callers", 1), "one")
 FOUR = ((0, 1, 2, 3), (1, 1, 3, 3), (2, 3, 2, 3), (3, 3, 3, 3))
 
 
@@ -67,11 +71,46 @@ def sign_book(**changes):
     return Book(**parts)
 
 
+def sibling_book():
+    """The book of [12.9]."""
+    return Book((("set", 0), ("add", 1)), (("is", 0),), FOUR, [empty_lot()] + [whole_lot()] * 3,
+                ((0, 1, 1, 1), (0, 2, 3, 3)), ((0, 1, 0, 1),), ((0, 0, 2, 2),), 1)
+
+
 def chain_book(many):
     """A book of so many words, each at most the next one."""
     joins = [[max(a, b) for b in range(many)] for a in range(many)]
     meanings = [empty_lot()] + [range_lot(0, word) for word in range(1, many)]
     return Book([("set", 0)], [], joins, meanings, [[0] + [1] * (many - 1)], [], [], 1)
+
+
+def ring_book(ups, downs, more=()):
+    """A book whose numbers beneath words come round late, with further letters that tell the top.
+
+    One ring of words adds 19 and another one 17; all else tells the top word.
+    """
+    many = 3 + ups + downs
+    top = many - 1
+    joins = [[b if a == 0 else a if b in (0, a) else top for b in range(many)] for a in range(many)]
+    up = [0, 2, *[2 + (at + 1) % ups for at in range(ups)], *[top] * downs, top]
+    down = [0, 2 + ups, *[top] * ups, *[2 + ups + (at + 1) % downs for at in range(downs)], top]
+    first = [0] + [1] * top
+    return Book([("set", 0), ("add", 19), ("add", 17), *more], [], joins,
+                [empty_lot()] + [whole_lot()] * top,
+                [first, up, down, *[[0] + [top] * top for _ in more]], [], [], 1)
+
+
+def word_at(book, program, answer, run, at, variable):
+    """The word that an answer tells for a variable at a step of a run, NONE if there is no row."""
+    node = node_of_calls(book, program, answer, open_calls(run, at))
+    row = None if node is None else row_told(answer, node, run.steps[at][2])
+    return 0 if row is None else row[variable]
+
+
+def row_at_end(book, program, treatment):
+    """The row at END of main that a treatment tells."""
+    answer = answer_program(book, program, treatment)
+    return row_told(answer, (program.main, first_key(book, treatment, program)), -1)
 
 
 def random_test(rng, most, rests):
