@@ -253,10 +253,64 @@ def sound_book(rng, **more):
                 pass
 
 
-def plain_program(rng, book, depth=2, most=3):
-    """A random program of one procedure with one variable and no call."""
-    words = ("deed", "deed", "deed", "copy", "need", "if", "either", "either", "while", "stop")
-    return random_program(rng, book, procedures=1, variables=1, depth=depth, most=most, words=words)
+LOOP_LETTERS = [("set", 0), ("add", 1), ("add", 2), ("add", -2), ("turn",), ("mod", 3)]
+LOOP_TESTS = [("rest", 2, 0), ("rest", 3, 1), ("below", 5), ("is", 4), ("rest", 1, 0)]
+
+
+def loop_program(rng, ends=0.8):
+    """A plain program of loops with choices in them, with needs between."""
+    def deeds():
+        return tuple(("deed", 0, rng.choice(LOOP_LETTERS)) for _ in range(rng.randint(0, 2)))
+
+    rows = deeds()
+    for _ in range(rng.randint(1, 2)):
+        row = ("either", deeds(), deeds())
+        if rng.random() < 0.3:
+            row = ("if", 0, rng.choice(LOOP_TESTS), deeds(), (row,))
+        if rng.random() < 0.8:
+            row = ("while", 0, rng.choice(LOOP_TESTS), (row, *deeds()))
+        rows += (row, *deeds())
+        if rng.random() < ends:
+            rows += (("need", 0, rng.choice(LOOP_TESTS)),)
+    return Program([("main", 1, rows)])
+
+
+def loop_book(rng, nones=0.2):
+    """A random book over the alphabet of loop_program."""
+    book = random_book(rng, nones=nones)
+    tables = [[rising_row(rng, book.joins, nones / part) for _ in items]
+              for part, items in ((2, LOOP_LETTERS), (1, LOOP_TESTS), (1, LOOP_TESTS))]
+    return remade(book, letters=LOOP_LETTERS, tests=LOOP_TESTS, deeds=tables[0], so=tables[1], not_so=tables[2])
+
+
+def plain_program(rng, book, depth=2, most=3, ends=0.1):
+    """A random program of one procedure with one variable and no call; few of its rows end runs."""
+    def block(left, least):
+        return tuple(row(left) for _ in range(rng.randint(least, most)))
+
+    def row(left):
+        deed = ("deed", 0, rng.choice(book.letters))
+        if rng.random() < ends:
+            return ("need", 0, rng.choice(book.tests)) if book.tests and rng.random() < 0.8 else ("stop",)
+        kind = rng.choice(("deed", "deed", "copy", "if", "either", "while", "while"))
+        if kind == "copy":
+            return ("copy", 0, 0)
+        if kind == "deed" or left == 0 or not book.tests and kind != "either":
+            return deed
+        if kind == "either":
+            return ("either", block(left - 1, 0), block(left - 1, 0))
+        if kind == "if":
+            return ("if", 0, rng.choice(book.tests), block(left - 1, 0), block(left - 1, 0))
+        # A choice first, so that few loops go on for ever.
+        inner = (("either", block(left - 1, 1), block(left - 1, 1)), *block(left - 1, 0))
+        return ("while", 0, rng.choice(book.tests), inner)
+
+    rows = block(depth, 1)
+    while size_of(rows) > 59:
+        rows = block(depth, 1)
+    if book.tests:
+        rows += (("need", 0, rng.choice(book.tests)),)
+    return Program([("main", 1, rows)])
 
 
 def kin(rng, book, changes=2):

@@ -6,13 +6,12 @@ import unittest
 from randoms import random_book, random_program, remade, sound_book, told_meanings
 from support import TREATMENTS, error_of, evens, odds, parity_book, ring_book, sign_book
 from truebooks.beneath import beneath_lots
-from truebooks.books import Book
 from truebooks.calls import answer_program
 from truebooks.covering import all_gaps, first_gap, meanings_fault, tight_book
 from truebooks.letters import do_letter, passes
 from truebooks.lies import Lies, NeverLies, verdict
 from truebooks.lots import (
-    both_lot, either_lot, empty_lot, just_lot, less_lot, lot_members, make_lot, range_lot, whole_lot, within,
+    both_lot, either_lot, empty_lot, just_lot, less_lot, lot_members, range_lot, whole_lot, within,
 )
 from truebooks.told import told_words
 

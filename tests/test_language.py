@@ -61,6 +61,22 @@ INTERFACE = {
     "told": ["told_words", "told_lines", "told_fault", "told_procedures", "told_program",
              "rows_that_matter"],
     "beneath": ["word_machine", "beneath_lots"],
+    "lies": ["show_couple", "verdict", "lie_fault", "Shown", "NeverLies", "Lies"],
+    "couples": ["couples_told", "couple_program"],
+    "twobooks": ["alike", "finer", "Parts"],
+    "paths": ["path_lots", "paths_row", "joins_fault", "none_fault", "paths_alike", "is_silent"],
+    "callkin": ["treatments_alike"],
+    "contexts": ["run_steps", "parted", "told_classes"],
+    "leastbook": ["least_book", "class_of", "told_match"],
+    "covering": ["all_gaps", "first_gap", "meanings_fault", "tight_book"],
+    "bestbook": ["least_word", "best_book", "covered_book", "lots_book"],
+    "mends": ["least_mends"],
+    "placelots": ["place_lots", "failing_lot"],
+    "alarms": ["alarm_cause", "alarm_causes", "cause_fault", "Real", "Loss"],
+    "exactbook": ["exact_book"],
+    "fits": ["follow_run", "first_leaving", "quiet_failure", "leaving_run"],
+    "desk": ["report_of", "Report", "Desk"],
+    "stories": ["play_story", "write_story", "read_story"],
 }
 # The parameters that the interface tells for what has defaults or keywords.
 SIGNATURES = {
@@ -76,6 +92,22 @@ SIGNATURES = {
     ("calls", "node_of_calls"): "book, program, answer, calls",
     ("unrolled", "unroll_place"): "book, program, node, place",
     ("tablejudge", "judge_answer"): "book, program, answer, lines",
+    ("lies", "show_couple"): "book, word, number",
+    ("lies", "lie_fault"): "book, lie",
+    ("couples", "couple_program"): "one, other, word, partner",
+    ("paths", "paths_row"): "book, program, name, place",
+    ("paths", "paths_alike"): "book, *, many=False",
+    ("contexts", "run_steps"): "book, word, steps",
+    ("contexts", "parted"): "book, word, other",
+    ("covering", "meanings_fault"): "book, lots",
+    ("bestbook", "least_word"): "book, lot",
+    ("bestbook", "lots_book"): "book, lots",
+    ("mends", "least_mends"): "book, pool",
+    ("placelots", "failing_lot"): "program, place",
+    ("alarms", "cause_fault"): "book, program, place, cause",
+    ("fits", "first_leaving"): "book, program, answer, one",
+    ("fits", "leaving_run"): "book, program, answer, fuel, most=64",
+    ("stories", "play_story"): "book, program, treatment, deeds",
 }
 PARTS = {"Lot": {"__init__", "__eq__", "__contains__", "bare"}, "Machine": {"__init__", "__eq__"},
          "Heights": {"__init__", "__eq__"}, "Book": {"__init__", "__eq__", "many", "top"},
@@ -83,7 +115,11 @@ PARTS = {"Lot": {"__init__", "__eq__", "__contains__", "bare"}, "Machine": {"__i
          "Climb": {"__init__", "pass_on", "enter", "settle", "settled"},
          "Climbed": {"__init__", "__eq__"}, "Answer": {"__init__", "__eq__", "alarm_places"},
          "Keeper": {"__init__", "do_edits", "take_back", "set_treatment", "work_out", "made_anew"},
-         "Unrolled": {"__init__", "__eq__"}}
+         "Unrolled": {"__init__", "__eq__"}, "Shown": {"__init__", "__eq__"},
+         "NeverLies": {"__init__", "__eq__"}, "Lies": {"__init__", "__eq__"},
+         "Parts": {"__init__", "__eq__"}, "Real": {"__init__", "__eq__"}, "Loss": {"__init__", "__eq__"},
+         "Report": {"__init__", "__eq__"},
+         "Desk": {"__init__", "do_deed", "work_out", "told_verdict", "run_here", "leaving_here", "trial"}}
 
 
 def files():

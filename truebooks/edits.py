@@ -1,6 +1,6 @@
 """Edits of programs: rows, procedures and whole units put in the place of others."""
 
-from truebooks.basics import is_sequence, is_sequence_of, is_whole
+from truebooks.basics import is_sequence, is_whole
 from truebooks.errors import BadEdit, BadProgram
 from truebooks.packages import is_unit
 from truebooks.programs import Program, block_places, rows_count
