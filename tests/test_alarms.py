@@ -287,6 +287,15 @@ class FaultTest(unittest.TestCase):
         self.assertEqual(cause_fault(book, program, 5, Real((1,) * 5000, 2)), "run")
         self.assertIsNone(cause_fault(book, program, 5, Real((1, 1, 1, 0, 1, 0), 2)))
 
+    def test_runs_out_of_fuel_at_the_need(self):
+        loop = ("while", 0, ("rest", 1, 0), (("need", 0, ("below", 1)), ("either", (plus(1),), ())))
+        program = Program([("main", 1, (loop,))])
+        one = run_program(program, (1,) * 2000, 5000)
+        self.assertEqual((one.end, one.steps[-1][2]), ("fuel", 1))
+        self.assertEqual(cause_fault(rough_book(program), program, 1, Real((1,) * 2000, 0)), "run")
+        self.assertEqual(cause_fault(rough_book(program), program, 1, Real((1,) * 2000, 1)), "run")
+        self.assertIsNone(cause_fault(rough_book(program), program, 1, Real((), 1)))
+
     def test_losses(self):
         program = Program([("main", 1, (plus(1), ("need", 0, ("is", 1))))])
         book = sign_book(tests=(("is", 1),), so=((0, 0, 2, 2),), not_so=((0, 1, 2, 3),))

@@ -300,6 +300,10 @@ class MendTest(unittest.TestCase):
         self.assertEqual(least_mends(book, [("deed", 1, 1, 3)]), ((0,),))
         self.assertEqual(least_mends(parity_book(), [("deed", 1, 1, 3)]), ((),))
         self.assertEqual(least_mends(book, [["deed", 0, 1, 3]]), ())
+        # Six raises are not too many.
+        more = [("deed", 0, 1, 3), ("deed", 0, 2, 3), ("deed", 1, 1, 3), ("deed", 0, 3, 3), ("deed", 1, 2, 3)]
+        self.assertEqual(least_mends(parity_book(deeds=((0, 0, 1, 1), (0, 1, 1, 1))), [*more, ("deed", 1, 3, 3)]),
+                         self.plain_mends(parity_book(deeds=((0, 0, 1, 1), (0, 1, 1, 1))), [*more, ("deed", 1, 3, 3)]))
 
     def test_against_all_selections(self):
         rng = random.Random(255)

@@ -94,7 +94,7 @@ class StepsTest(unittest.TestCase):
         wrong = (None, (), ("deed",), ("deed", ("add", 1), 0), ("deed", ("add", 2)), ("deed", ("add", True)),
                  ("deed", "turn"), ("deed", None), ("deed", ("is", 0)), ("so", ("is", 1)), ("so", ("add", 1)),
                  ("not", ("below", True)), ("join", 0), ("join", 4), ("join", -1), ("join", True), ("join", None),
-                 ("join", (1,)), ("stay",), ("stay", 1), ("step", ADD), (["deed"], ("add", 1)), ("deed", ("set", False)),
+                 ("join", (1,)), ("stay",), ("stay", 1), ("stay", ("is", 0)), ("deed", ("is", 0)), ("step", ADD), (["deed"], ("add", 1)), ("deed", ("set", False)),
                  "so", {"so": 1}, ("deed", [["add"], 1]))
         for step in wrong:
             self.assertEqual(error_of(run_steps, book, 1, (step,)), ("BadSteps", 0), step)

@@ -1,13 +1,14 @@
 """Couples shown by programs, and the verdict whether a book ever lies."""
 
 from truebooks.beneath import beneath_lots, word_machine
-from truebooks.calls import answer_program, node_of_calls, row_told
+from truebooks.calls import answer_program
 from truebooks.errors import OtherAlphabet, TooLarge
+from truebooks.fits import follow_run
 from truebooks.lots import within
 from truebooks.programs import MOST_ROWS
 from truebooks.reach import shortest_run
 from truebooks.rows import check_alphabet
-from truebooks.runs import MOST_FUEL, open_calls, run_program
+from truebooks.runs import MOST_FUEL, run_program
 from truebooks.tables import check_word
 from truebooks.told import call_of_told, program_with_told, row_of_step
 
@@ -131,14 +132,8 @@ def lie_fault(book, lie):
     if values[lie.variable] != lie.number:
         return "number"
     for treatment in TREATMENTS:
-        if _word_told(book, lie, treatment, run) != lie.word:
+        answer = answer_program(book, lie.program, treatment)
+        _, row = follow_run(book, lie.program, answer, run)[lie.at]
+        if (0 if row is None else row[lie.variable]) != lie.word:
             return "word"
     return "within" if lie.number in book.meanings[lie.word] else None
-
-
-def _word_told(book, lie, treatment, run):
-    """Return the word that a treatment tells for the variable at the step of a lie."""
-    answer = answer_program(book, lie.program, treatment)
-    node = node_of_calls(book, lie.program, answer, open_calls(run, lie.at))
-    row = None if node is None else row_told(answer, node, run.steps[lie.at][2])
-    return 0 if row is None else row[lie.variable]
