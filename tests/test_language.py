@@ -244,6 +244,43 @@ class LanguageTest(unittest.TestCase):
                     attributes.add(node.attr)
         self.assertEqual(methods & attributes, set())
 
+    def test_no_name_is_a_property_and_a_method_or_attribute(self):
+        properties = set()
+        others = set()
+        for _, tree in trees():
+            for node in ast.walk(tree):
+                if isinstance(node, ast.ClassDef):
+                    for part in node.body:
+                        if isinstance(part, ast.FunctionDef):
+                            (properties if part.decorator_list else others).add(part.name)
+                if isinstance(node, ast.Attribute) and isinstance(node.ctx, ast.Store):
+                    others.add(node.attr)
+        self.assertEqual(properties & others, set())
+        self.assertGreater(len(properties), 4)
+
+    def test_stars_in_calls_stand_before_names(self):
+        for name, tree in trees():
+            for node in ast.walk(tree):
+                if isinstance(node, ast.Call):
+                    for given in node.args:
+                        if isinstance(given, ast.Starred):
+                            self.assertIsInstance(given.value, (ast.Name, ast.List, ast.Tuple), (name, node.lineno))
+
+    def test_zips_and_views_are_iterated_at_once(self):
+        takers = {"list", "tuple", "dict", "sorted", "sum", "enumerate", "zip", "min", "max"}
+        for name, tree in trees():
+            right = set()
+            for node in ast.walk(tree):
+                if isinstance(node, (ast.For, ast.comprehension)):
+                    right.add(id(node.iter))
+                if isinstance(node, ast.Call) and isinstance(node.func, ast.Name) and node.func.id in takers:
+                    right |= {id(given) for given in node.args}
+            for node in ast.walk(tree):
+                if isinstance(node, ast.Call):
+                    word = getattr(node.func, "id", getattr(node.func, "attr", None))
+                    if word in ("zip", "enumerate", "range", "reversed", "items", "keys", "values", "combinations"):
+                        self.assertIn(id(node), right, (name, node.lineno))
+
     def test_caught_errors_are_the_package_s_own(self):
         own = set(vars(errors))
         for name, tree in trees():

@@ -1,5 +1,6 @@
 """What the document promises over the whole program: the main sentence and what hangs on it."""
 
+import pathlib
 import random
 import unittest
 
@@ -193,6 +194,14 @@ class BooksTest(unittest.TestCase):
                     self.assertIsNone(first_leaving(exact, program, answer, one))
                 self.assertIsNone(leaving_run(exact, program, answer, 6, 400))
         self.assertGreater(made, 30)
+
+
+class ReadmeTest(unittest.TestCase):
+    def test_the_example_of_the_readme(self):
+        text = (pathlib.Path(__file__).parent.parent / "README.md").read_text()
+        code = text.split("```python\n")[1].split("```")[0]
+        self.assertGreater(code.count("assert"), 10)
+        exec(code, {})
 
 
 class KeptTest(unittest.TestCase):

@@ -50,7 +50,7 @@ class Inquiry:
         self.answer = answer_program(book, program, "entry")
         self.lines = reasons_of(book, program, "entry")
 
-    def alarm_places(self):
+    def alarmed(self):
         """Return the ascending list of the places of all alarms."""
         return [place for _, place in self.answer.node_alarms]
 
@@ -113,7 +113,7 @@ class Inquiry:
 def alarm_cause(book, program, place):
     """Return the cause of the alarm at a place, or raise Unfit, NoAlarm or TooLong."""
     inquiry = Inquiry(book, program)
-    if not is_whole(place) or place not in inquiry.alarm_places():
+    if not is_whole(place) or place not in inquiry.alarmed():
         raise NoAlarm(place)
     return inquiry.cause_at(place_lots(program), place)
 
@@ -122,7 +122,7 @@ def alarm_causes(book, program):
     """Return the couples (place, cause) of all alarms, by places ascending."""
     inquiry = Inquiry(book, program)
     lots = place_lots(program)
-    return tuple([(place, inquiry.cause_at(lots, place)) for place in inquiry.alarm_places()])
+    return tuple([(place, inquiry.cause_at(lots, place)) for place in inquiry.alarmed()])
 
 
 def cause_fault(book, program, place, cause):

@@ -76,8 +76,8 @@ def verdict(book):
     if all([within(lot, meaning) is None for lot, meaning in zip(lots, book.meanings)]):
         return NeverLies(lots)
 
-    def is_false(word, number):
-        return number not in book.meanings[word]
+    def is_false(station, number):
+        return number not in book.meanings[station]
 
     rows, word = _shown_rows(book, is_false)
     program = program_with_told(book, 1, rows)
